@@ -1,0 +1,1 @@
+"""Cutyard: whole-number plans, answered with papers."""

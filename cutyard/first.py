@@ -38,10 +38,10 @@ def over(row, stand):
     return left(row[0], stand.tops) - row[1] * stand.bottom
 
 
-def missed_row(rows, stand):
-    """The least number of a row that the corner misses, or None."""
-    for number, row in enumerate(rows):
-        if over(row, stand) < 0:
+def missed_row(rows, numbers, stand):
+    """The first of the numbers whose row the corner misses, or None."""
+    for number in numbers:
+        if over(rows[number], stand) < 0:
             return number
     return None
 
@@ -52,15 +52,15 @@ def least_grown(stand, grown):
     return min(places, key=lambda place: stand.held[place], default=None)
 
 
-def stopping_row(rows, stand, way):
-    """The number of the row that is met evenly first along the way, of several the least, or None."""
+def stopping_row(rows, numbers, stand, way):
+    """Of the numbers that of the row that is met evenly first along the way, of several the first, or None."""
     chosen = None
     chosen_over = 0
     chosen_fall = 1
-    for number, row in enumerate(rows):
-        fall = -left(row[0], way)
+    for number in numbers:
+        fall = -left(rows[number][0], way)
         if fall > 0:
-            row_over = over(row, stand)
+            row_over = over(rows[number], stand)
             # over / fall is how far one can go; both falls are above 0, so this compares the two.
             if chosen is None or row_over * chosen_fall < chosen_over * fall:
                 chosen = number
@@ -123,9 +123,9 @@ def endless_ending(stand, way):
     return ("endless", lowest(stand.tops, stand.bottom), tuple([step // divisor for step in way]))
 
 
-def next_step(rows, goal, stand):
+def next_step(rows, numbers, goal, stand):
     """("step", place let go, number to be held), or the walk's ending."""
-    number = missed_row(rows, stand)
+    number = missed_row(rows, numbers, stand)
     if number is not None:
         raised = growths(stand, rows[number][0])
         place = least_grown(stand, raised)
@@ -136,22 +136,26 @@ def next_step(rows, goal, stand):
     place = least_grown(stand, grown)
     if place is None:
         return best_ending(stand, grown)
-    number = stopping_row(rows, stand, stand.ways[place])
+    number = stopping_row(rows, numbers, stand, stand.ways[place])
     if number is None:
         return endless_ending(stand, stand.ways[place])
     return ("step", place, number)
 
 
-def walk(rows, goal):
-    """The pair (trail, ending) of the walk."""
-    stand = beginning(rows, len(goal))
+def walk_on(rows, numbers, goal, stand):
+    """The walk from the stand on, where the rows of the rising numbers are looked at: (trail, last stand, ending)."""
     steps = []
-    told = next_step(rows, goal, stand)
+    told = next_step(rows, numbers, goal, stand)
     while told[0] == "step":
         steps.append((stand.held[told[1]], told[2]))
         stand = exchanged(rows, stand, told[1], told[2])
-        told = next_step(rows, goal, stand)
-    return (tuple(steps), told)
+        told = next_step(rows, numbers, goal, stand)
+    return (tuple(steps), stand, told)
+
+
+def walk(rows, goal):
+    """The walk from the least rows on: (trail, last stand, ending)."""
+    return walk_on(rows, tuple(range(len(rows))), goal, beginning(rows, len(goal)))
 
 
 def trail(rows, goal):
@@ -161,4 +165,4 @@ def trail(rows, goal):
 
 def first(rows, goal):
     """How the walk ends: none, endless or best."""
-    return walk(rows, goal)[1]
+    return walk(rows, goal)[2]

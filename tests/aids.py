@@ -41,3 +41,11 @@ def made_givens(chance, n, more, size):
     rows = [least_row(n, k, chance.randint(-size, size)) for k in range(n)]
     rows += [(numbers(chance, n, size), chance.randint(-size, size)) for _ in range(more)]
     return tuple(rows)
+
+
+def dot(entries, spot):
+    return sum(a * b for a, b in zip(entries, spot))
+
+
+def meets_all(rows, spot):
+    return all(dot(entries, spot) >= bound for entries, bound in rows)

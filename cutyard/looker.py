@@ -1,15 +1,8 @@
 """The looker: whether cuts, papers, endings and verdicts are right."""
 
 from cutyard.plans import better, givens, worth
-from cutyard.rows import left, meets, passes
+from cutyard.rows import left, meets, passes, width
 from cutyard.wholes import up
-
-
-def width(rows):
-    """How many entries the rows have; of no rows there are no unknowns."""
-    if len(rows) == 0:
-        return 0
-    return len(rows[0][0])
 
 
 def is_row_number(rows, number):

@@ -8,6 +8,13 @@ def unit(n, place):
     return tuple([1 if other == place else 0 for other in range(n)])
 
 
+def width(rows):
+    """How many entries the rows have; of no rows there are no unknowns."""
+    if len(rows) == 0:
+        return 0
+    return len(rows[0][0])
+
+
 def left(entries, spot):
     """The sum of entry times number over all unknowns."""
     return sum([entry * number for entry, number in zip(entries, spot)])

@@ -30,6 +30,11 @@ def up(top, bottom):
     return -(-top // bottom)
 
 
+def nearest(top, bottom):
+    """A whole number that none is nearer to top / bottom than; the bottom has any sign, but isn't 0."""
+    return (2 * top + bottom) // (2 * bottom)
+
+
 def lowest(tops, bottom):
     """Tops and bottom, divided by the greatest number that divides them all."""
     if bottom < 1:

@@ -56,7 +56,7 @@ def hopeless_shares(ledger):
     if place is None:
         return None
     entries = ledger.rows[place][0]
-    shares = [ledger.bound_share(unknown, entry) for unknown, entry in enumerate(entries) if entry != 0]
+    shares = [ledger.bound_share(other, entry) for other, entry in enumerate(entries) if entry != 0]
     return ((ledger.row_marks[place], 1),) + tuple(shares)
 
 

@@ -2,6 +2,9 @@
 
 from cutyard.rows import left, turned, unit
 
+MOST_UNKNOWNS = 8
+MOST_ROWS = 12
+
 
 def givens(plan):
     """The least rows, then the most rows, then the plan's own rows."""

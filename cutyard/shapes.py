@@ -72,14 +72,20 @@ class Shape:
         self.basis = self.basis.picked(places)
         self.ends = [self.ends[place] for place in places]
 
-    def middle_spot(self):
-        """The spot whose forms are nearest to the middle of the points."""
+    def spot_near(self, point, times):
+        """The spot whose forms are nearest to the point, led to the middle of the points: one part of so many of it."""
         points = list(self.points)
+        bottom = point[1] * PARTS * len(points)
         numbers = []
         for entries in self.basis.turns:
-            parts = [nearest(PARTS * left(entries, point[0]), point[1]) for point in points]
-            numbers.append(nearest(sum(parts), PARTS * len(points)))
-        return self.basis.spot_of(numbers, len(points[0][0]))
+            parts = [nearest(PARTS * left(entries, other[0]), other[1]) for other in points]
+            top = left(entries, point[0]) * PARTS * len(points)
+            numbers.append(nearest(top * (times - 1) + sum(parts) * point[1], bottom * times))
+        return self.basis.spot_of(numbers, len(point[0]))
+
+    def middle_spot(self):
+        """The spot whose forms are nearest to the middle of the points."""
+        return self.spot_near(self.ends[0][0], 1)
 
     def halving_choice(self):
         """The choice that halves the form that reaches least, of those that don't have one whole number alone."""

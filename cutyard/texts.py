@@ -1,14 +1,13 @@
 """The text of a plan: how it is read, and how it is written."""
 
 from cutyard.errors import NoName, NoText, TooGreat, Twice
+from cutyard.plans import MOST_ROWS, MOST_UNKNOWNS
 from cutyard.rows import turned
 
 LETTERS = "abcdefghijklmnopqrstuvwxyz"
 FIGURES = "0123456789"
 MOST_LETTERS = 12
 MOST_FIGURES = 4
-MOST_UNKNOWNS = 8
-MOST_ROWS = 12
 
 
 def is_name(word):

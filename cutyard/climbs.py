@@ -108,11 +108,9 @@ class Climb:
             if told is not None:
                 lines.extend(told)
                 continue
+            # A part of the side that was left open has a first answer: so the side has one, too.
             here = self.raised(task[0])
             walked = walk_side(here, self.goal)
-            if walked[1][0] == "none":
-                lines.extend(shut_lines(here, walked[1][1]))
-                continue
             shape = fitted_shape(Side(here.rows, here.numbers, walked[0]), task[1])
             if self.rise(shape, walked[1][1]):
                 waiting.append((here, shape.basis, task[2]))

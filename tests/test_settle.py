@@ -7,8 +7,9 @@ from cutyard.climbs import Climb, raised_side, raised_stand
 from cutyard.first import Stand, beginning, first, walk
 from cutyard.looker import bars, holds
 from cutyard.plans import givens
+from cutyard.search import tied_basis
 from cutyard.settle import settled
-from cutyard.shapes import fitted_shape
+from cutyard.shapes import Shape, fitted_shape
 from cutyard.sides import Side, walk_side
 from cutyard.strikes import Struck
 from papers import slow_bars
@@ -195,6 +196,16 @@ class ThinTest(SettledCase):
         self.right((((0, None),) * 4, rows, (1, -125, 0, 0)), "best")
         self.right((((0, None),) * 4, rows, (1, -5, -5, 25)), "best")
         self.right((((0, None),) * 4, rows, (-1, -1, -1, -1)), "best", -(2 + 12 + 62 + 0))
+
+    def test_worths_that_hang_on_a_form(self):
+        # z is at most far times a form and at most far less far times it: 0 where it is whole, else up to far / 2.
+        for form in ((1, -1), (1, -5), (7, -4)):
+            for far in (4, 5, 10 ** 6, GREAT):
+                rows = ((tuple(far * a for a in form) + (-1,), 0), (tuple(-far * a for a in form) + (-1,), -far))
+                for most in (None, 10 ** 9):
+                    plan = (((0, most), (0, most), (0, None)), rows, (0, 0, 1))
+                    self.assertGreater(dot(plan[2], first(givens(plan), plan[2])[1][0]), 0)
+                    self.right(plan, "best", 0)
 
     def test_thin_plans_of_more_unknowns(self):
         chance = maker(311)
@@ -439,6 +450,8 @@ class PartsTest(SettledCase):
         climb = self.climb(plan, (1, 0))
         self.assertEqual([climb.is_better(spot) for spot in ((1, 0), (1, 1), (-1, 3), (3, 1), (0, 3))],
                          [False, True, False, False, True])
+        climb.take((0, 3))
+        self.assertEqual([climb.is_better(spot) for spot in ((1, 1), (3, 0), (0, 4))], [False, False, False])
 
     def test_rising_between_middle_and_corner(self):
         far = 10 ** 60
@@ -465,11 +478,12 @@ class PartsTest(SettledCase):
     def test_a_shape_for_each_choice(self):
         chance = maker(331)
         words = []
-        with mock.patch("cutyard.climbs.FEW_CHOICES", 0):
-            for _ in range(120):
-                plan = made_plan(chance, boxed=True)
-                words.append(self.right(plan, *tried(plan))[0])
-        self.assertGreater(min(counted(words).values()), 20)
+        for few in (0, 1, 2, 4):
+            with mock.patch("cutyard.climbs.FEW_CHOICES", few):
+                for _ in range(100):
+                    plan = made_plan(chance, boxed=True)
+                    words.append(self.right(plan, *tried(plan))[0])
+        self.assertGreater(min(counted(words).values()), 50)
 
     def test_behind_many_shapes_the_forms_stay(self):
         chance = maker(332)
@@ -481,6 +495,31 @@ class PartsTest(SettledCase):
             for _ in range(60):
                 plan = made_plan(chance, boxed=True)
                 self.right(plan, *tried(plan))
+
+    def test_shapes_within_shapes_are_counted(self):
+        rows = (((-12, -17, -23, -31, -7), -1001), ((-5, 3, -7, 2, 9), -40), ((3, -8, 1, -5, 2), -60))
+        plan = (((0, 50),) * 5, rows, (11, 18, 25, 30, 9))
+        halve = Shape.halving_choice
+        counts = []
+        for most in (100, 1):
+            halved = []
+            with mock.patch("cutyard.climbs.FEW_CHOICES", 0), mock.patch("cutyard.climbs.MOST_SHAPES", most), \
+                    mock.patch.object(Shape, "halving_choice", lambda shape: halved.append(shape) or halve(shape)):
+                self.right(plan, "best")
+            counts.append(len(halved))
+        self.assertGreater(counts[0], 1)
+        self.assertEqual(counts[1], 1)
+
+    def test_spots_between_a_point_and_the_middle(self):
+        rows = givens((((0, 1000), (0, 1000)), (), (0, 0)))
+        shape = fitted_shape(Side(rows, (0, 1, 2, 3), beginning(rows, 2)), tied_basis(rows, (0, 1, 2, 3)))
+        middle = shape.middle_spot()
+        self.assertTrue(all(200 < number < 800 for number in middle))
+        self.assertEqual(shape.spot_near(((0, 0), 1), 1), middle)
+        self.assertEqual(shape.spot_near(((7, 9), 3), 1), middle)
+        half = shape.spot_near(((1000, 0), 1), 2)
+        self.assertTrue(all(abs(2 * number - there - end) <= 2 for number, there, end in zip(half, middle, (1000, 0))))
+        self.assertEqual(shape.spot_near(((2100, 3), 3), 10 ** 9), (700, 1))
 
     def test_the_climb_is_not_step_by_step(self):
         # Between the spot found and the best one lie 10 ** 90 worths.

@@ -204,6 +204,27 @@ class KnownTest(YardCase):
         yard.put_row(((1, 0), 0))
         self.assertTrue(same(self.right(yard), told))
 
+    def test_endless_stays_where_a_fresh_yard_tells_another_spot(self):
+        chance = maker(441)
+        fresh = {"put_row": 0, "take_row": 0}
+        for _ in range(600):
+            plan = (((0, None),) * 3, tuple((numbers(chance, 3, 2), chance.randint(-3, 5)) for _ in range(2)),
+                    numbers(chance, 3, 2))
+            yard = Yard(plan)
+            told = yard.answer()
+            if told[0] != "endless":
+                continue
+            entries = numbers(chance, 3, 2)
+            if chance.random() < 0.5:
+                yard.take_row(chance.randint(0, 1))
+                fresh["take_row"] += not same(settled(yard.plan_now()), told)
+            elif dot(entries, told[2]) == 0:
+                # Along the ray it stays as it is.
+                yard.put_row((entries, dot(entries, told[1]) - chance.randint(0, 2)))
+                fresh["put_row"] += not same(settled(yard.plan_now()), told)
+            self.assertTrue(same(self.right(yard), told))
+        self.assertGreater(min(fresh.values()), 4, fresh)
+
     def test_endless_is_forgotten(self):
         yard = Yard(OPEN)
         told = yard.answer()

@@ -64,11 +64,10 @@ def crowded_group(guests, offers, guest_prices):
     no guest's is above that of a seat offered to them. So at some height more guests than
     seats offered to these are so high.
     """
+    groups = []
     for height in sorted(guest_prices):
-        group = tuple([guest for guest, price in zip(guests, guest_prices) if price <= height])
-        if seats_offered(group, offers) < len(group):
-            return group
-    return ()
+        groups.append(tuple([guest for guest, price in zip(guests, guest_prices) if price <= height]))
+    return [group for group in groups if seats_offered(group, offers) < len(group)][0]
 
 
 def seating(guests, seats, offers):
